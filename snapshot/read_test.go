@@ -24,11 +24,14 @@ func run(seq, base int64, counts ...int64) [][3]int64 {
 	return out
 }
 
-// accepted are states that are valid and that batches lead to, if only such as Check would refuse.
+// accepted are states that are valid: some that batches lead to, if only such as Check would refuse, and some that none leads to.
 func accepted() []api.Producer {
-	out := []api.Producer{
-		state(0, 0, -1), state(1, 0, -1), state(math.MaxInt64-1, 0, -1), state(math.MaxInt64, 0, -1), state(1<<33, 7, -1),
-		state(4, 1, -1), state(4, api.MaxEpoch-1, -1), state(4, api.MaxEpoch, -1),
+	out := []api.Producer{state(1, 0, -1), state(math.MaxInt64-1, 0, -1), state(1<<33, 7, -1), state(1<<33, 7, 5)}
+	// Behind data there is some, and behind a marker no transaction is open: so no batch leads to the most of these.
+	for _, open := range []int64{-1, 0, 1, 12, api.MaxOffset - 1, api.MaxOffset} {
+		for _, epoch := range []int{0, 1, 2, api.MaxEpoch - 1, api.MaxEpoch} {
+			out = append(out, state(0, epoch, open), state(4, epoch, open), state(math.MaxInt64, epoch, open))
+		}
 	}
 	elements := [][][3]int64{
 		// The three numbers of an element at their bounds, and round the end of the sequence numbers.
@@ -58,9 +61,7 @@ func TestReadOfStatesThatAreValid(t *testing.T) {
 			t.Fatalf("P10.2: Right(%v): false", p)
 		}
 		x := reads(t, nums(written(7, []api.Producer{p})...), 7, p)
-		if at, ok := x.Open(); at != p.Open || ok != (p.Open >= 0) {
-			t.Errorf("P12.1: Open of what was read, %v: %d, %v", p, at, ok)
-		}
+		openIs(t, x, p.Open)
 		// Between two others, of which one has what p has.
 		other := l[(i*7+3)%len(l)]
 		p.ID, other.ID = 3, 9
@@ -163,28 +164,57 @@ func TestReadOfFiveLatestBatches(t *testing.T) {
 	}
 }
 
-// A state with an open transaction and without any data is valid, but it is the state of no table's producer:
-// behind data there is some, and behind a marker no transaction is open. So these are the Bytes of no table.
+// A state with an open transaction and without latest batches is valid, though batches lead to no such state.
 func TestReadOfStatesThatNoBatchLeadsTo(t *testing.T) {
-	for _, open := range []int64{0, 1, 7, api.MaxOffset - 1, api.MaxOffset} {
-		for _, epoch := range []int{0, 1, api.MaxEpoch} {
-			for _, id := range []int64{0, 4, math.MaxInt64} {
-				p := state(id, epoch, open)
-				if !producer.Right(p) {
-					t.Fatalf("P10.2: Right(%v): false", p)
-				}
-				corrupt(t, "an open transaction without any data", nums(one(p)...))
-				// With -1 instead, or with data, it is one.
-				p.Open = -1
-				reads(t, nums(one(p)...), 7, p)
-				p.Open, p.Last = open, run(0, 0, 1)
-				reads(t, nums(one(p)...), 7, p)
-			}
-		}
-	}
 	known := state(3, 1, 2, [3]int64{0, 0, 2})
-	corrupt(t, "an open transaction without any data", nums(written(7, []api.Producer{known, state(4, 1, 2)})...))
-	corrupt(t, "an open transaction without any data", nums(written(7, []api.Producer{state(2, 1, 2), known})...))
+	for _, open := range []int64{0, 1, 2, 7, api.MaxOffset - 1, api.MaxOffset} {
+		p, q := state(4, 3, open), state(2, 0, open)
+		x := reads(t, nums(5, 1, 4, 3, open, 0), 5, p)
+		openIs(t, x, open)
+		aborts(t, x, p, 1<<20)
+		openIs(t, x, -1)
+		// Beside others, also of its own kind.
+		x = reads(t, nums(written(9, []api.Producer{q, known, p})...), 9, q, known, p)
+		openIs(t, x, min(open, 2))
+		aborts(t, x, q, 30)
+		aborts(t, x, known, 31)
+		openIs(t, x, open)
+		aborts(t, x, p, 32)
+		openIs(t, x, -1)
+	}
+}
+
+// openIs fails the test unless Open of x answers want, and true unless that is -1.
+func openIs(t *testing.T, x *table.Table, want int64) {
+	t.Helper()
+	if got, ok := x.Open(); got != want || ok != (want != -1) {
+		t.Errorf("P12.1: Open of what was read, %v: %d, %v, want %d", x.All(), got, ok, want)
+	}
+}
+
+// aborts fails the test unless a marker at base is taken by x, and aborts the transaction of p.
+func aborts(t *testing.T, x *table.Table, p api.Producer, base int64) {
+	t.Helper()
+	b := marker(base, p.ID, p.Epoch, api.Abort)
+	if at, why := x.Check(b); at != -1 || why != api.OK {
+		t.Errorf("P12.1: Check of %v with what was read, %v: %d, %d, want -1, 0", b, p, at, int(why))
+	}
+	want := api.Dropped{Producer: p.ID, First: p.Open, Last: base}
+	if d, ok := x.Apply(b); d != want || !ok {
+		t.Errorf("P12.1: Apply of %v with what was read, %v: %v, %v, want %v, true", b, p, d, ok, want)
+	}
+}
+
+// Such a state is held to all else that is asked of one.
+func TestReadOfOpenTransactionsThatAreNotValid(t *testing.T) {
+	for _, l := range [][]int64{
+		{5, 1, 4, 3, -2, 0}, {5, 1, 4, 3, math.MinInt64, 0}, {5, 1, 4, 3, api.MaxOffset + 1, 0}, {5, 1, 4, 3, math.MaxInt64, 0},
+		{5, 1, -1, 3, 0, 0}, {5, 1, 4, -1, 0, 0}, {5, 1, 4, api.MaxEpoch + 1, 0, 0}, {5, 1, 4, 1<<32 + 3, 0, 0},
+		{5, 2, 4, 3, 0, 0, 4, 3, 0, 0}, {5, 2, 4, 3, 0, 0, 3, 3, 0, 0}, {5, 2, 4, 3, 0, 0}, {5, 0, 4, 3, 0, 0}, {5, 1, 4, 3, 0}, {5, 1, 4, 3, 0, 1}, {5, 1, 4, 3, 0, -1}, {5, 1, 4, 3, 0, 0, 0},
+		{-1, 1, 4, 3, 0, 0}, {api.MaxOffset + 1, 1, 4, 3, 0, 0},
+	} {
+		corrupt(t, "an open transaction without latest batches", nums(l...))
+	}
 }
 
 func TestReadOfBytesThatAreCutOff(t *testing.T) {
